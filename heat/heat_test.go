@@ -510,22 +510,26 @@ func TestAHeatOfSoManyBitsIsColdBehindSoManyDecays(t *testing.T) {
 
 func TestWhoWasNeverLessTouchedIsNeverColder(t *testing.T) {
 	chance := rand.New(rand.NewSource(153))
-	uses := []int{1, 1, 1, 2, 3, 4, 5, 7, 8, 100, 1000, most / 2, most - 1, most, most + 1, math.MaxInt}
+	uses := []int{1, 1, 1, 2, 3, 4, 5, 7, 8, 100, 1000, most / 2, most - 1, most, most + 1, 1 << 40}
 	for range 2000 {
 		b := heat.New()
 		chunks := chance.Perm(lastC)
 		more, less := chunks[0]+1, chunks[1]+1
-		for range 40 {
-			switch chance.Intn(6) {
+		ahead := 0 // by how many uses since the last Decay
+		for range 60 {
+			n := uses[chance.Intn(len(uses))]
+			switch chance.Intn(8) {
 			case 0, 1, 2:
-				i := chance.Intn(len(uses))
-				b.Touch(more, uses[i])
-				b.Touch(less, uses[chance.Intn(i+1)])
-			case 3:
-				b.Touch(more, uses[chance.Intn(len(uses))])
-			case 4:
+				b.Touch(more, n)
+				ahead += n
+			case 3, 4, 5:
+				n = min(n, ahead)
+				b.Touch(less, n)
+				ahead -= n
+			case 6:
 				b.Decay()
-			case 5:
+				ahead = 0
+			case 7:
 				if chance.Intn(10) == 0 {
 					b.Forget(less)
 				}
